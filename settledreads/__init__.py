@@ -1,0 +1,1 @@
+"""Settledreads: settings that are read anew while works run."""
