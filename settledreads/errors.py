@@ -104,7 +104,7 @@ class BadDeeds(SettledError):
 
 
 class Busy(SettledError):
-    """What is open still, so that this cannot be done."""
+    """What is in use still, so that this cannot be done."""
 
 
 class Unkept(SettledError):
