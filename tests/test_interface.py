@@ -5,13 +5,14 @@ import unittest
 
 from samples import SHEET_TEXT
 
-from settledreads import errors, plans, sheets, views
+from settledreads import errors, houses, plans, running, seeing, sheets, stories, views
 
 PROPERTIES = {
     sheets.Sheet: ('text', 'names', 'sizes', 'rules', 'editions'),
     views.View: ('sheet', 'pairs', 'worths', 'is_whole', 'is_lawful'),
     views.Draft: ('view', 'broken'),
     plans.Plan: ('text', 'parts', 'ways', 'takes'),
+    houses.House: ('text', 'sheet', 'plan'),
 }
 METHODS = {
     sheets.Sheet: ('__init__', '__eq__'),
@@ -21,6 +22,18 @@ METHODS = {
     ),
     views.Draft: ('__init__', '__getitem__', '__contains__', '__setitem__', '__ior__'),
     plans.Plan: ('__init__', '__eq__'),
+    houses.House: ('__init__', 'first_line', 'with_ways', '__eq__'),
+}
+FUNCTIONS = {
+    stories.reads_of: ('plan', 'firsts', 'story'),
+    stories.keeps_all: ('plan', 'part', 'manner'),
+    stories.shows_keeps_all: ('plan', 'part', 'manner', 'value'),
+    stories.alike_all: ('plan', 'other'),
+    stories.shows_alike_all: ('plan', 'other', 'value'),
+    running.ran: ('house', 'part', 'run'),
+    running.kept_manners: ('house', 'part', 'run'),
+    seeing.sees: ('house', 'part', 'manner'),
+    seeing.shows_sees: ('house', 'part', 'manner', 'value'),
 }
 
 
@@ -30,7 +43,10 @@ def arguments(call):
 
 class InterfaceTest(unittest.TestCase):
     def test_files(self):
-        for place, kinds in ((sheets, ['Sheet']), (views, ['View', 'Draft']), (plans, ['Plan'])):
+        for place, kinds in (
+            (sheets, ['Sheet']), (views, ['View', 'Draft']), (plans, ['Plan']), (houses, ['House']), (running, ['ran', 'kept_manners']),
+            (stories, ['reads_of', 'keeps_all', 'shows_keeps_all', 'alike_all', 'shows_alike_all']), (seeing, ['sees', 'shows_sees']),
+        ):
             for name in kinds:
                 self.assertEqual(getattr(place, name).__module__, place.__name__)
         self.assertEqual(errors.BadText.__module__, 'settledreads.errors')
@@ -51,7 +67,12 @@ class InterfaceTest(unittest.TestCase):
         self.assertEqual(arguments(views.View.is_within), ['other'])
         self.assertEqual(arguments(views.Draft), ['edition'])
         self.assertEqual(arguments(plans.Plan), ['text'])
+        self.assertEqual(arguments(houses.House), ['text'])
+        self.assertEqual(arguments(houses.House.first_line), ['part'])
+        self.assertEqual(arguments(houses.House.with_ways), ['ways'])
         self.assertEqual(arguments(errors.BadText), ['value'])
+        for call, names in FUNCTIONS.items():
+            self.assertEqual(tuple(arguments(call)), names)
 
     def test_rules(self):
         rule = sheets.Sheet(SHEET_TEXT).rules[0]

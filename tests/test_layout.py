@@ -39,6 +39,28 @@ class LayoutTest(unittest.TestCase):
                     self.assertEqual(node.level, 0, path)
                     self.assertIn(node.module.split('.')[0], ('settledreads', *LIBRARY), path)
 
+    def test_a_property_has_its_name_alone(self):
+        """No attribute is assigned, and no method is called, as a property of some class is."""
+        properties, methods, attributes = set(), set(), set()
+        for path in self.files():
+            for node in ast.walk(ast.parse(path.read_text())):
+                if isinstance(node, ast.FunctionDef) and node.args.args[:1] and node.args.args[0].arg == 'self':
+                    is_property = 'property' in [sign.id for sign in node.decorator_list if isinstance(sign, ast.Name)]
+                    (properties if is_property else methods).add(node.name)
+                if isinstance(node, ast.Attribute) and isinstance(node.ctx, ast.Store):
+                    attributes.add(node.attr)
+        self.assertEqual([properties & methods, properties & attributes, methods & attributes], [set(), set(), set()])
+
+    def test_imports_go_one_way(self):
+        heads = {}
+        for path in self.files():
+            rows = [node.module for node in ast.walk(ast.parse(path.read_text())) if isinstance(node, ast.ImportFrom)]
+            heads[f'settledreads.{path.stem}'] = [name for name in rows if name.startswith('settledreads')]
+        while heads:
+            free = [name for name, rows in heads.items() if not [row for row in rows if row in heads]]
+            self.assertTrue(free, heads)
+            heads = {name: rows for name, rows in heads.items() if name not in free}
+
 
 if __name__ == '__main__':
     unittest.main()
