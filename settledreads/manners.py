@@ -42,10 +42,9 @@ def judged(manner, numbers, tail, rest):
         return (tail, rest) if number == numbers[1] else None
     if manner == "each":
         return ((number,), rest) if tail[0] in (NONE, number) else None
-    if manner == "begun":
-        return (tail, rest) if rest[0] == number else None
     if manner == "forward":
         return (tail, (number,)) if rest[0] <= number else None
+    # one, and begun: of this the mark is never NONE.
     return (tail, (number,)) if rest[0] in (NONE, number) else None
 
 

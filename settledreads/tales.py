@@ -12,6 +12,7 @@ from settledreads.texts import is_int
 
 LOWEST_FIRST = -4
 LONE_WORDS = ("read", "take", "back", "install")
+QUIET_WORDS = ("take", "back", "install")
 PART_WORDS = ("begin", "ask", "renew")
 
 
@@ -125,8 +126,8 @@ class PlanWalk:
         self.aim = aim
         self.doors = doors
         parts = list(range(len(road.part_names)))
-        words = [(word, NONE) for word in LONE_WORDS]
-        self.events = words + [(word, part) for word in ("ask", "renew") for part in parts]
+        words = [(word, NONE) for word in QUIET_WORDS]
+        self.quiet_events = words + [(word, part) for word in ("ask", "renew") for part in parts]
 
     def starts(self):
         """All standings with which a work may begin."""
@@ -141,9 +142,9 @@ class PlanWalk:
         """What comes behind each event."""
         openings, kept, present, *rest = standing
         rows = []
-        for event in self.events:
+        for event in self.quiet_events:
             where = after(self.road, (openings, kept, present), event, first_tail(self.aim))
-            if where is not None and event[0] != "read":
+            if where is not None:
                 rows.append((event, False, (*where, *rest)))
         rows.append(self.reading(standing))
         return rows

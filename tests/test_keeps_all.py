@@ -151,6 +151,20 @@ class ShowsTableTest(unittest.TestCase):
                 for table in table_changes(told[1]):
                     self.shows(plan, part, manner, ('always', table), False)
 
+    def test_owns_and_marks_that_cannot_be(self):
+        """Tables that would be closed, if owns and marks could be any."""
+        for text in ('part a once', 'part a kept', 'part b handed\npart a once'):
+            plan = Plan(text)
+            for part, manner in itertools.product(plan.parts, MANNERS):
+                good, _ = greatest_table(plan, part, manner)
+                marks = {(row[0], row[1], row[2], mark) for row in good for mark in range(-2, row[2] + 1)}
+                owns = {
+                    (tuple([(*opening[:2], own) for opening in row[0]]), *row[1:]) for row in good for own in range(-2, row[2] + 1)
+                }
+                for rows, is_right in ((good, keeps_all(plan, part, manner)[0] == 'always'), (good | marks, False), (good | owns, False)):
+                    if rows == good or not rows <= set(all_forms(plan, part, manner)):
+                        self.shows(plan, part, manner, ('always', tuple(sorted(rows))), is_right)
+
     def test_openings_that_cannot_be(self):
         plan = Plan('part c once\npart b handed\npart a kept')
         table = keeps_all(plan, 'c', 'each')[1] if keeps_all(plan, 'c', 'each')[0] == 'always' else ()
@@ -221,6 +235,17 @@ class ShowsStoryTest(unittest.TestCase):
         self.shows(plan, 'a', 'one', (), story[:-1], False)
         self.shows(plan, 'a', 'one', (), (), False)
         self.shows(plan, 'a', 'one', (), (*story[:-1], BACK, READ), False)
+
+    def test_each_opening_by_itself(self):
+        plan = Plan('part a fresh\npart b fresh\npart c handed')
+        begin, ask = ('begin', 'a'), ('ask', 'b')
+        twice = (begin, ask, READ, BACK, INSTALL, ask, READ)
+        self.shows(plan, 'a', 'each', (), twice, False)
+        self.shows(plan, 'a', 'one', (), twice, True)
+        self.shows(plan, 'a', 'each', (), (*twice, INSTALL, READ), True)
+        self.shows(plan, 'a', 'each', (), (*twice, INSTALL, ('ask', 'c'), READ), False)
+        self.shows(plan, 'a', 'each', (), (*twice, INSTALL, BACK, READ), False)
+        self.shows(plan, 'a', 'each', (), (*twice, BACK, READ, INSTALL, ask, READ, BACK, READ), True)
 
     def test_firsts(self):
         plan = Plan('part a kept\npart b kept')

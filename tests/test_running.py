@@ -257,7 +257,7 @@ class BadRunTest(unittest.TestCase):
         wrong = (
             ('step',), ('step', 0, 0), ('step', None), ('step', False), ('step', True), ('step', '0'), ('step', (0,)), ('step', -1), ('step', 1),
             ('install',), ('install', 0), ('install', 0, 0), ('renew',), ('renew', 'top'), ('renew', 'mid'), ('renew', 'zz'), ('renew', None),
-            ('renew', 0), ('renew', 'low', 'idle'), ('renew', ('low',)), ('read',), ('take',), ('begin', 'top'), ('ask', 'mid'), ('back',),
+            ('renew', 0), ('renew', 'low', 'idle'), ('renew', ('low',)), ('ask', 'low'), ('begin', 'low'), ('Renew', 'low'), (None, 'low'), ('read',), ('take',), ('begin', 'top'), ('ask', 'mid'), ('back',),
             ['step', 0], ['renew', 'low'], 'step', None, 0, True, (), {}, ('Step', 0), (None, 0), (('step', 0),), nested(30), ('', ''),
         )
         for event in wrong + tuple(strange_values()):

@@ -1,5 +1,6 @@
 """shows_sees: greater tables, tables wrong in one thing, all short runs, and what is no result."""
 
+import itertools
 import random
 import unittest
 
@@ -134,6 +135,30 @@ class TableTest(ShowsCase):
             row = (((7, 0, -1),), ((0, 1),), (), mark)
             self.shows(house, 'a', 'lawful', ('always', (*table, row)), False)
 
+    def test_owns_and_marks_that_cannot_be(self):
+        """Where nothing is read, any own and mark would be closed: so their form alone is asked."""
+        text = 'key x 2\npart a once\n  take\n  take\npart b kept\n  end'
+        home, house = Home(text), House(text)
+        for manner in ('begun', 'each', 'forward', 'one'):
+            table = sees(house, 'a', manner)[1]
+            for own, mark in itertools.product((-1, -2, 0, 1), repeat=2):
+                is_right = mark in {'begun': (-2, 0, 1), 'each': (-1,), 'forward': (0, 1), 'one': (-1, -2, 0, 1)}[manner]
+                is_right = is_right and (own == -1 or manner == 'each')
+                row = (((3, 1, own),), ((-1,), (-1,)), (0,), mark)
+                rows = closure_of(home, manner, [row])
+                self.shows(house, 'a', manner, ('always', tuple(sorted({*table, *rows}))), is_right)
+
+    def test_numbers_of_openings_that_cannot_be(self):
+        text = 'key x 2\npart a once\n  ask b\n  take\npart b {}\n  take\npart c kept\n  end'
+        for way, numbers in (('once', (0, 1)), ('handed', (0, 1)), ('fresh', (-1,)), ('kept', (-1,))):
+            home, house = Home(text.format(way)), House(text.format(way))
+            table = sees(house, 'a', 'one')[1]
+            for first, second in itertools.product((-1, 0, 1), repeat=2):
+                kept = (0,) * len(home.kept_parts)
+                rows = closure_of(home, 'one', [(((2, first, -1), (5, second, -1)), ((-1,), (-1,)), kept, -1)])
+                is_right = first in (0, 1) and second in numbers
+                self.shows(house, 'a', 'one', ('always', tuple(sorted({*table, *rows}))), is_right)
+
     def test_openings_that_cannot_be(self):
         text = 'key x 2\npart a once\n  ask b\n  loop\n    end\n  ask c\n  end\n  take\npart b handed\n  read x\npart c fresh\n  choose\n    way\n      take\n' \
             '    way\n      end'
@@ -162,6 +187,15 @@ class TableTest(ShowsCase):
         more = closure_of(home, 'one', [(((4, 0, -1),), ((-1,),), (), -1)])
         self.assertFalse(more & table)
         self.shows(house, 'a', 'one', ('always', tuple(sorted(table | more))), True)
+
+    def test_an_end_is_no_place(self):
+        text = 'key x 2\npart a once\n  take\n  end\n  take'
+        house, home = House(text), Home(text)
+        table = set(sees(house, 'a', 'one')[1])
+        more = closure_of(home, 'one', [(((4, 0, -1),), ((-1,),), (), -1)])
+        ends = {(((3, *row[0][0][1:]),), *row[1:]) for row in more}
+        self.shows(house, 'a', 'one', ('always', tuple(sorted(table | more))), True)
+        self.shows(house, 'a', 'one', ('always', tuple(sorted(table | more | ends))), False)
 
     def test_over_as_it_begins(self):
         house = House('key x 2\npart a once\n  end\n  take')
