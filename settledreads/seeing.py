@@ -66,13 +66,11 @@ def fitting(sheet, row):
 
 
 def is_breaking(house, walk, run):
-    """Whether the last event of a run, a read, breaks the manner, and none ahead."""
+    """Whether the last event of a run breaks the manner, and none ahead: then it is a read."""
     try:
         course = read_run(house, walk.road, walk.first_part, run)
         ahead = read_run(house, walk.road, walk.first_part, (run[0], run[1], run[2][:-1]))
     except BadRun:
-        return False
-    if len(course.told_reads) == len(ahead.told_reads):
         return False
     if not is_kept(house.sheet, walk.aim, ahead.told_reads, course.begun_by):
         return False

@@ -98,6 +98,13 @@ class SeesTest(unittest.TestCase):
             for part in ('shop', 'till'):
                 self.assertIsNotNone(self.check(DESK, part, manner, 20000))
 
+    def test_several_installs_with_unlike_worths(self):
+        text = 'key x 2\npart a once\n  if x = 1\n    ask b\npart b once\n  if x = 0\n    ask c\npart c once\n  if x = 1\n    ask d\n' \
+            'part d fresh\n  read x\n  read x'
+        word, run = self.check(text, 'a', 'each', 20000)
+        self.assertEqual((word, len(run[2]), run[0]), ('breaks', 11, ((1,),)))
+        self.assertEqual([event[1] for event in run[2] if event[0] == 'install'][:2], [(0,), (1,)])
+
     def test_small_tables(self):
         house = House('key x 2\nkey y 2\npart a once\n  if x = 1\n    read y')
         first, second = (3, 0, -1), (4, 0, -1)
