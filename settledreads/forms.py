@@ -21,3 +21,19 @@ def are_numbers(value, many, low, high):
 def is_ascending(rows):
     """Whether rows that can be compared are sorted, none of them twice."""
     return all([one < other for one, other in zip(rows, rows[1:])])
+
+
+def are_names(value, names):
+    """Whether it is an ascending tuple of one or more of these names."""
+    if not isinstance(value, tuple) or not value or not all([name in names for name in value]):
+        return False
+    return is_ascending(value)
+
+
+def is_same(value, wanted):
+    """Whether it is just what is wanted, made of tuples, integers and strings: Python takes 1 and True for equal."""
+    if isinstance(wanted, tuple):
+        return is_row(value, len(wanted)) and all([is_same(one, other) for one, other in zip(value, wanted)])
+    if is_int(wanted):
+        return is_int(value) and value == wanted
+    return isinstance(value, str) and value == wanted

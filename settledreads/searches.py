@@ -1,20 +1,23 @@
 """Searches through all standings that come, and closed tables of them.
 
-A walk has starts() and, of a standing, moves(standing): rows (event, whether it breaks the manner,
-what comes, with numbers as they were). settled(raw) is the standing that this is, and is_standing
-tells forms. What comes has () for its openings where the work is over.
+A walk has starts(), all standings with which a work may begin, and, of a standing, moves(standing):
+rows (event, whether it breaks the manner, what comes, with numbers as they were). settled(raw) is the
+standing that this is, and is_standing tells forms. What comes has () for its openings where the work
+is over.
 """
 
 from settledreads.errors import TooMany
 from settledreads.forms import is_ascending
 
+MOST_STANDINGS = 4000
 
-def search(walk, most=None):
+
+def search(walk, starts, most=None):
     """(table, None) of all standings that come, or (None, (first standing, events)) that break the manner soonest.
 
     TooMany if more than so many come by fewer events than the shortest way to a break has.
     """
-    found = {standing: None for standing in walk.starts()}
+    found = {standing: None for standing in starts}
     row = list(found)
     while row:
         if most is not None and len(found) > most:
@@ -30,7 +33,8 @@ def search(walk, most=None):
                 if told not in found:
                     found[told] = (standing, event)
                     later.append(told)
-        row = later
+        # A list of its own, since what is walked is never the list that grows.
+        row = list(later)
     return tuple(sorted(list(found))), None
 
 
@@ -43,17 +47,17 @@ def way_to(found, standing, last):
     return standing, tuple(events[::-1])
 
 
-def is_table(walk, value):
-    """Whether a value is an ascending tuple of standings by their form, and closed."""
+def is_table(walk, starts, value):
+    """Whether a value is an ascending tuple of standings by their form, closed, and has all of the starts."""
     if not isinstance(value, tuple) or not all([walk.is_standing(row) for row in value]):
         return False
-    return is_ascending(value) and is_closed(walk, value)
+    return is_ascending(value) and is_closed(walk, starts, value)
 
 
-def is_closed(walk, table):
-    """Whether a table has all with which a work may begin, and all that come behind its members, with no break."""
+def is_closed(walk, starts, table):
+    """Whether a table has all of the starts, and all that come behind its members, with no break."""
     held = {standing: True for standing in table}
-    if not all([standing in held for standing in walk.starts()]):
+    if not all([standing in held for standing in starts]):
         return False
     for standing in table:
         for _, is_broken, raw in walk.moves(standing):

@@ -52,7 +52,7 @@ def two_walk(plan, other):
 
 def told_search(walk, kept_word, broken_word):
     """What a search tells: the table, or firsts and a story."""
-    table, way = search(walk)
+    table, way = search(walk, walk.starts())
     if way is None:
         return (kept_word, table)
     standing, events = way
@@ -65,7 +65,7 @@ def told_search(walk, kept_word, broken_word):
 def is_told(walk, kept_word, broken_word, value):
     """Whether a value is a closed table, or firsts and a story that break the manner."""
     if is_row(value, 2) and value[0] == kept_word:
-        return is_table(walk, value[1])
+        return is_table(walk, walk.starts(), value[1])
     if is_row(value, 3) and value[0] == broken_word:
         return is_breaking(walk, value[1], value[2])
     return False

@@ -7,29 +7,32 @@ each key, UNREAD for one that was not read of it. The last one is the present ed
 from settledreads.courses import behind_read
 from settledreads.forms import are_numbers, is_row
 from settledreads.lits import all_worths
-from settledreads.manners import first_rest, first_tail, is_rest, is_tail, judged, rest_renumbered
+from settledreads.manners import ALIKE, first_rest, first_tail, is_rest, is_tail, judged, rest_renumbered
 from settledreads.programs import READS
 from settledreads.roads import NONE, kept_beginnings, places_of, renumbered
 from settledreads.texts import is_int
 
 UNREAD = -1
 LAWFUL = "lawful"
+# What needs the worths of all reads, where the others need those that programs hang on alone.
+KNOWING = (ALIKE, LAWFUL)
 
 
 class HouseWalk:
     """All runs of works that begin with one part of a house.
 
-    Events are (word, what, worth): what is the number of a step, or of a part that is begun anew.
+    Events are (word, what, worth): what is the number of a step, or of a part that is begun anew; of a
+    read by which two plans part, worth is a pair. In standings, worths of the known keys may be known.
     """
 
-    def __init__(self, house, road, part, aim):
+    def __init__(self, house, road, part, aim, known_keys):
         self.program = house.program
         self.road = road
         self.first_part = part
         self.aim = aim
         self.key_sizes = house.sheet.sizes
         self.lawful_rows = rows_of(house.sheet)
-        self.known_keys = keys_known(house, aim)
+        self.known_keys = known_keys
         self.blank = tuple([UNREAD for _ in self.key_sizes])
 
     def starts(self):
@@ -73,30 +76,50 @@ class HouseWalk:
 
     def readings(self, standing, statement):
         """What comes behind a read, for each worth that it may give."""
-        openings, known, kept, *rest = standing
-        kind, place, _, _ = statement
+        openings, known, kept, *_ = standing
         last = openings[-1]
+        kind, place, _, _ = statement
         numbers = self.road.reads(self.program.owners[last[0]], last, kept, len(known) - 1)
-        number = numbers[0]
-        if kind == "read" and self.aim != LAWFUL:
+        if numbers[0] != numbers[-1]:
+            return [self.reading_by_two(standing, statement, numbers)]
+        if kind == "read" and self.aim not in KNOWING:
             return [self.reading(standing, statement, numbers, UNREAD, known)]
         rows = []
-        for worth in range(self.key_sizes[place]):
-            row = with_worth(known[number], place, worth)
-            if row in self.lawful_rows:
-                told = (*known[:number], row, *known[number + 1:])
-                rows.append(self.reading(standing, statement, numbers, worth, told))
+        for worth in self.worths_left(known[numbers[0]], place):
+            learnt = with_known(known, numbers[0], place, worth)
+            rows.append(self.reading(standing, statement, numbers, worth, learnt))
         return rows
+
+    def worths_left(self, row, place):
+        """The worths that a key of an edition may have, of which this row is known: never none."""
+        return [worth for worth in range(self.key_sizes[place]) if with_worth(row, place, worth) in self.lawful_rows]
 
     def reading(self, standing, statement, numbers, worth, known):
         """What comes behind a read that gives this worth; known is what is known then."""
         openings, _, kept, *rest = standing
-        last = openings[-1]
-        many = 1 + self.road.many
-        told = self.judged(statement[1], worth, numbers, last[many:], rest)
+        told = self.judged(statement[1], worth, numbers, openings[-1][1 + self.road.many:], rest)
         if told is None:
             return ("step", 0, worth), True, (openings, known, kept, *rest)
-        changed = (*openings[:-1], (*last[:many], *told[0]))
+        return self.went(standing, statement, worth, known, told)
+
+    def reading_by_two(self, standing, statement, numbers):
+        """What comes behind a read that is of one edition by one plan, of another one by the other."""
+        openings, known, kept, *rest = standing
+        first, second = numbers
+        place = statement[1]
+        left = [self.worths_left(known[number], place) for number in numbers]
+        unlike = [(one, other) for one in left[0] for other in left[1] if one != other]
+        one, other = unlike[0] if unlike else (left[0][0], left[1][0])
+        learnt = with_known(with_known(known, first, place, one), second, place, other)
+        if unlike:
+            return ("step", 0, (one, other)), True, (openings, learnt, kept, *rest)
+        # Both can give one worth alone, the same: no work can tell these editions apart by this read.
+        return self.went(standing, statement, one, learnt, (openings[-1][1 + self.road.many:], rest))
+
+    def went(self, standing, statement, worth, known, told):
+        """What comes behind a read of this worth that breaks nothing; told has the tail and the rest then."""
+        openings, _, kept, *_ = standing
+        changed = (*openings[:-1], (*openings[-1][:1 + self.road.many], *told[0]))
         line = behind_read(statement, worth)
         return ("step", 0, worth), False, (self.program.went_on(changed, line), known, kept, *told[1])
 
@@ -174,6 +197,11 @@ def with_worth(row, place, worth):
     return (*row[:place], worth, *row[place + 1:])
 
 
+def with_known(known, number, place, worth):
+    """What is known of all editions, with this worth of a key of one of them."""
+    return (*known[:number], with_worth(known[number], place, worth), *known[number + 1:])
+
+
 def rows_of(sheet):
     """A dict of all rows of worths, or of some, that are part of some edition."""
     rows = {}
@@ -183,9 +211,44 @@ def rows_of(sheet):
     return rows
 
 
+def all_keys(house):
+    """The places of all keys."""
+    return list(range(len(house.sheet.names)))
+
+
 def keys_known(house, aim):
-    """The places of the keys of which worths may be known: those of ifs alone, unless all reads are kept."""
-    if aim == LAWFUL:
-        return list(range(len(house.sheet.names)))
+    """The places of the keys of which a manner has worths known: those of ifs alone, unless all reads are kept."""
+    if aim in KNOWING:
+        return all_keys(house)
     statements = list(house.program.statements.values())
     return [what for kind, what, _, _ in statements if kind == "if"]
+
+
+def run_of(house, walk, way):
+    """The run that goes a way of a search, with whole editions that have all worths that it read."""
+    standing, events = way
+    raw = standing
+    for event in events:
+        raw = [told for known_event, _, told in walk.moves(raw) if known_event == event][0]
+    editions = [fitting(house.sheet, row) for row in raw[1]]
+    many = len(standing[1])
+    rows = []
+    installed = many
+    for word, what, _ in events:
+        if word == "install":
+            rows.append((word, editions[installed]))
+            installed += 1
+        else:
+            rows.append((word, house.plan.parts[what] if word == "renew" else what))
+    return tuple(editions[:many]), standing[2], tuple(rows)
+
+
+def fitting(sheet, row):
+    """The first edition that has what is known."""
+    told = [edition for edition in sheet.editions if has_known(edition, row)]
+    return told[0]
+
+
+def has_known(edition, row):
+    """Whether an edition has all that is known."""
+    return all([worth in (UNREAD, told) for worth, told in zip(row, edition)])
