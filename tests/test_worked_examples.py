@@ -1,4 +1,4 @@
-"""The worked examples of sections 4 to 8, as they stand in the document, each going on from those ahead."""
+"""The worked examples of sections 4 to 13, as they stand in the document, each going on from those ahead."""
 
 import doctest
 import unittest
@@ -46,16 +46,51 @@ EXAMPLE = '''
 ['breaks', 4, 'always']
 >>> [len(sees(house, 'shop', 'one')[1]), sees(house, 'shop', 'one')[1][0]]
 [10, (((4, 0, -1),), ((-1, -1),), (), -1)]
+>>> from settledreads.alike import alike
+>>> [alike(house, 'shop', ('once', 'once'))[0], len(alike(house, 'shop', ('once', 'once'))[1][2]), alike(house, 'till', ('kept', 'once'))[0]]
+['apart', 4, 'alike']
+>>> settled = House('key mode 2\\nrule mode = 0\\npart shop fresh\\n  read mode\\n  read mode')
+>>> [alike(settled, 'shop', ('once',))[0], sees(settled, 'shop', 'one')[0]]
+['alike', 'breaks']
+>>> from settledreads.choosing import cheapest_ways
+>>> told = cheapest_ways(loose, ('shop',), 'one', (('till', 'handed', 2), ('till', 'once', 1)))
+>>> [told[:3], len(told[3][0]), [row[:2] for row in told[4]]]
+[('choice', 2, (('till', 'handed', 2),)), 10, [((), 'shop'), ((('till', 'once', 1),), 'shop')]]
+>>> from settledreads.anew import anew
+>>> desks = House('key x 2\\nkey y 2\\npart front fresh\\n  ask left\\n  ask right\\npart left kept\\n  read x\\npart right kept\\n  read y')
+>>> older = (((0, 0), (1, 1)), (0, 0))
+>>> [anew(desks, ('front',), older[0], older[1], manner, (1, 1))[:2] for manner in ('one', 'present')]
+[(0, ()), (2, ('left', 'right'))]
+>>> direct = House(desks.text.replace('fresh\\n', 'fresh\\n  read x\\n'))
+>>> [anew(direct, ('front',), older[0], older[1], 'one', (1, 1))[:2], len(anew(direct, ('front',), older[0], older[1], 'one', (1, 1))[3])]
+[(2, ('left', 'right')), 3]
+>>> from settledreads.changing import changeover, ends_well, mix
+>>> counter = House('key x 2\\nkey y 2\\npart front once\\n  read y\\n  ask left\\npart left kept\\n  read x')
+>>> mix(counter, ('front',), (0, 0), (1, 1), 'one', (('install',), ('renew', 'left')))
+('front', 1, (('step', 0), ('step', 0), ('step', 0)))
+>>> changeover(counter, ('front',), (0, 0), (1, 1), 'one', ((1,), (1,), 1))
+(3, (('close', 'front'), ('install',), ('wait',), ('renew', 'left'), ('open', 'front')))
+>>> [changeover(counter, ('front',), (0, 0), (1, 1), 'each', ((1,), (1,), 1)), ends_well(counter, ('front',), (0, 0), (0, 1), (('install',),))]
+[(1, (('install',), ('renew', 'left'))), True]
+>>> from settledreads.keepers import Keeper
+>>> keeper = Keeper(counter, View.whole(counter.sheet, (0, 0)))
+>>> [keeper.begin('front'), keeper.step(0), keeper.install(View.whole(counter.sheet, (1, 1))), keeper['x'], keeper.renew('left')]
+[0, ('y', 0), 1, 1, None]
+>>> [keeper.step(0), keeper.step(0), keeper.reads(0), keeper.manners(0), keeper.places(0)]
+[None, ('x', 1), (('y', 0, 0), ('x', 1, 1)), ('each', 'forward', 'lawful'), ()]
+>>> reading = keeper.reading('front')
+>>> [reading.read('y'), 'y' in reading, 'x' in reading, reading.ask('left').read('x'), reading.close()]
+[1, True, False, 1, None]
 '''
 
 
 class ExampleTest(unittest.TestCase):
     def test_line_by_line(self):
-        example = doctest.DocTestParser().get_doctest(EXAMPLE, {}, 'sections 4 to 8', None, 0)
+        example = doctest.DocTestParser().get_doctest(EXAMPLE, {}, 'sections 4 to 13', None, 0)
         told = []
         outcome = doctest.DocTestRunner().run(example, out=told.append)
         self.assertEqual(''.join(told), '')
-        self.assertEqual((outcome.failed, outcome.attempted), (0, 31))
+        self.assertEqual((outcome.failed, outcome.attempted), (0, 55))
 
     def test_a_view_may_be_unlawful_though_no_rule_is_false(self):
         from settledreads.sheets import Sheet
