@@ -137,7 +137,7 @@ class AnewWalk:
 
 def is_breaking(walk, steps):
     """Whether a value is a tuple of steps by whose last one, a read, the manner is broken."""
-    if not isinstance(steps, tuple) or not steps:
+    if not isinstance(steps, tuple):
         return False
     rows = walk.starts()
     for number, step in enumerate(steps):

@@ -29,8 +29,8 @@ def mix(house, doors, old, new, manner, deeds):
     _, way = search(walk, walk.starts())
     if way is None:
         return None
-    (openings, number, *_), events = way
-    return walk.road.part_names[walk.home.program.owners[openings[0][0]]], number, events
+    standing, events = way
+    return walk.road.part_names[walk.part_at(standing)], standing[1], events
 
 
 def shows_mix(house, doors, old, new, manner, deeds, value):
@@ -41,7 +41,7 @@ def shows_mix(house, doors, old, new, manner, deeds, value):
     if not is_row(value, 3) or value[0] not in doors or not is_number(value[1], 0, len(deeds)):
         return False
     part = walk.road.part_names.index(value[0])
-    rows = [row for row in walk.starts_behind(value[1]) if walk.home.program.owners[row[0][0][0]] == part]
+    rows = [row for row in walk.starts_behind(value[1]) if walk.part_at(row) == part]
     return len(rows) == 1 and is_mixing(walk, rows[0], value[2])
 
 

@@ -36,4 +36,4 @@ def is_same(value, wanted):
         return is_row(value, len(wanted)) and all([is_same(one, other) for one, other in zip(value, wanted)])
     if is_int(wanted):
         return is_int(value) and value == wanted
-    return isinstance(value, str) and value == wanted
+    return value == wanted

@@ -228,6 +228,10 @@ class Keeper:
             raise NoWork(value)
         return going[value]
 
+    def all_told(self):
+        """What makes keepers equal: the house, the first edition, the first manner, and the orders."""
+        return self._house.text, self.first_moment.installed, self.first_moment.aim, self.orders
+
     def remember(self, reading):
         """A reading was opened."""
         self.readings_made = [*self.open_readings(), reading]
@@ -251,11 +255,7 @@ class Keeper:
         raise TypeError("a keeper is not iterated over")
 
     def __eq__(self, other):
-        if not isinstance(other, Keeper) or self._house != other._house:
-            return False
-        mine = self.first_moment
-        theirs = other.first_moment
-        return mine.present_view == theirs.present_view and mine.aim == theirs.aim and self.orders == other.orders
+        return isinstance(other, Keeper) and self.all_told() == other.all_told()
 
 
 def first_broken(view):

@@ -88,6 +88,10 @@ class RowWalk:
                 rows.append((openings, number, *self.judge.blank_rest))
         return rows
 
+    def part_at(self, standing):
+        """The number of the part with which the work of a standing began."""
+        return self.home.program.owners[standing[0][0][0]]
+
     def moves(self, standing):
         """What comes behind each event."""
         openings, number, *rest = standing

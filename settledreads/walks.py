@@ -7,7 +7,7 @@ each key, UNREAD for one that was not read of it. The last one is the present ed
 from settledreads.courses import behind_read
 from settledreads.forms import are_numbers, is_row
 from settledreads.lits import all_worths
-from settledreads.manners import ALIKE, first_rest, first_tail, is_rest, is_tail, judged, rest_renumbered
+from settledreads.manners import first_rest, first_tail, is_rest, is_tail, judged, rest_renumbered
 from settledreads.programs import READS
 from settledreads.roads import NONE, kept_beginnings, places_of, renumbered
 from settledreads.texts import is_int
@@ -15,7 +15,7 @@ from settledreads.texts import is_int
 UNREAD = -1
 LAWFUL = "lawful"
 # What needs the worths of all reads, where the others need those that programs hang on alone.
-KNOWING = (ALIKE, LAWFUL)
+KNOWING = ("alike", "lawful")
 
 
 class HouseWalk:
@@ -76,7 +76,7 @@ class HouseWalk:
 
     def readings(self, standing, statement):
         """What comes behind a read, for each worth that it may give."""
-        openings, known, kept, *_ = standing
+        openings, known, kept = standing[:3]
         last = openings[-1]
         kind, place, _, _ = statement
         numbers = self.road.reads(self.program.owners[last[0]], last, kept, len(known) - 1)
@@ -118,7 +118,7 @@ class HouseWalk:
 
     def went(self, standing, statement, worth, known, told):
         """What comes behind a read of this worth that breaks nothing; told has the tail and the rest then."""
-        openings, _, kept, *_ = standing
+        openings, _, kept = standing[:3]
         changed = (*openings[:-1], (*openings[-1][:1 + self.road.many], *told[0]))
         line = behind_read(statement, worth)
         return ("step", 0, worth), False, (self.program.went_on(changed, line), known, kept, *told[1])

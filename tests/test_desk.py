@@ -63,6 +63,11 @@ class DeskTest(unittest.TestCase):
         self.says(desk, ('begin a', '0'), ('install 1', '1'), ('step 0', 'x = 1'), ('install 0', '2'), ('step 0', 'x = 0'), ('manners 0', 'forward'))
         self.says(desk, ('risk 0 one', 'risky 0'), ('step 0', 'x = 0'), ('risk 0 one', 'risky 0'), ('risk 0 forward', 'safe 0'))
 
+    def test_a_work_that_keeps_no_manner(self):
+        desk = Desk('edition 0\nmanner none\nhouse\n  key x 2\n  part a fresh\n    read x\n    read x\n    ask b\n  part b kept\n    read x\norders')
+        self.says(desk, ('begin a', '0'), ('step 0', 'x = 0'), ('install 1', '1'), ('step 0', 'x = 1'), ('manners 0', 'forward'), ('step 0', 'ok'))
+        self.says(desk, ('step 0', 'x = 0'), ('manners 0', '-'), ('reads 0', 'x = 0 of 0; x = 1 of 1; x = 0 of 0'))
+
     def test_choices_and_several(self):
         desk = Desk(RULED)
         self.says(desk, ('begin a', '0'), ('step 0 1', 'ok'), ('step 0', 'ok'), ('step 0', 'y = 0'), ('kept', 'b 0; c 0'), ('begin a', '1'), ('step 1', 'ok'))

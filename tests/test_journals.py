@@ -136,7 +136,7 @@ class BadTextTest(unittest.TestCase):
             '  begin front left', '  begin abcdefghi', '  begin 1', '  renew', '  renew left left', '  renew Left', '  renew 0', '  install', '  install 0', '  install 0 0 0',
             '  install 0 2', '  install 2 0', '  install 0 00', '  install 0 x', '  install 0 -1', '  install 0 1234567890', '  install  0 0', '  step', '  step 0',
             '  step 0 0 0', '  step 00 0', '  step 0 x', '  step x 0', '  step -1 0', '  step 1234567890 0', '  step 0 0 ', '  manner', '  manner all', '  manner present',
-            '  manner one one', '  manner None', '  undo', '  redo', '  orders', 'orders', '  Begin front', '  begin\tfront', '  get x', '  begin front\t',
+            '  manner one one', '  manner None', '  undo', '  redo', '  orders', 'orders', '  Begin front', '  begin\tfront', '  get x', '  begin front\t', '  foo one', '  one none', 'xxbegin front', ' xbegin front', '\t\tbegin front',
         ]
         for at in (11, 12, 17):
             for line in orders:

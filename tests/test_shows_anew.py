@@ -151,6 +151,15 @@ class ReasonTest(ShowsCase):
             home = Home(longer)
             self.shows(longer, rest, (*told[:3], (((), 'a', steps),)), breaks_at_last(home, 'a', 'one', rest[1], (0,), steps))
 
+    def test_steps_of_a_work_that_is_over_as_it_begins(self):
+        text = 'key x 2\npart a once\n  end\npart b fresh\n  read x\n  ask c\npart c kept\n  read x'
+        rest = (('a', 'b'), ((0,), (1,)), (0,), 'one', (4,))
+        told = anew(House(text), *rest)
+        self.assertEqual((told[:2], told[2][0]), ((4, ('c',)), ()))
+        for steps in ((), (0,), (0, 0, 0)):
+            self.shows(text, rest, (*told[:3], (((), 'a', steps),)), False)
+            self.shows(text, rest, (*told[:3], (((), 'b', steps),)), steps == (0, 0, 0))
+
     def test_rows_left_out_twice_and_exchanged(self):
         told = anew(House(DIRECT), *self.REST)
         price, names, tables, reasons = told

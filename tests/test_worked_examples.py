@@ -1,6 +1,7 @@
 """The worked examples of sections 4 to 13, as they stand in the document, each going on from those ahead."""
 
 import doctest
+import pathlib
 import unittest
 
 EXAMPLE = '''
@@ -91,6 +92,14 @@ class ExampleTest(unittest.TestCase):
         outcome = doctest.DocTestRunner().run(example, out=told.append)
         self.assertEqual(''.join(told), '')
         self.assertEqual((outcome.failed, outcome.attempted), (0, 55))
+
+    def test_what_the_readme_shows(self):
+        text = (pathlib.Path(__file__).resolve().parent.parent / 'README.md').read_text()
+        blocks = [block for block in text.split('```') if block.startswith('\n>>>')]
+        example = doctest.DocTestParser().get_doctest(''.join(blocks), {}, 'README', None, 0)
+        told = []
+        outcome = doctest.DocTestRunner().run(example, out=told.append)
+        self.assertEqual((''.join(told), outcome.failed, outcome.attempted > 20), ('', 0, True))
 
     def test_a_view_may_be_unlawful_though_no_rule_is_false(self):
         from settledreads.sheets import Sheet
