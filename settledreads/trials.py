@@ -4,7 +4,8 @@
 class Block:
     """A block that is gone through, with what the keeper had ahead of it.
 
-    outer is the block of the keeper around it; above is the one that the same trial was in already.
+    outer is the block of the keeper around it; above is the one that the same trial was in already;
+    kept_by is the Trial that keeps it, if one does.
     """
 
     def __init__(self, owner, above):
@@ -12,7 +13,8 @@ class Block:
         self.outer = owner.trying
         self.saved_done = list(owner.done)
         self.saved_undone = list(owner.undone)
-        self.is_kept = False
+        # No truth value: the rows of __exit__ may ask an attribute by is None alone.
+        self.kept_by = None
         self.is_void = False
 
 
@@ -26,7 +28,7 @@ class Trial:
     def keep(self):
         """What is done in the block stays."""
         if self.entered is not None:
-            self.entered.is_kept = True
+            self.entered.kept_by = self
 
     def __enter__(self):
         self.entered = Block(self.owner, self.entered)
@@ -34,7 +36,7 @@ class Trial:
         return self
 
     def __exit__(self, kind, value, trace):
-        if kind is not None or not self.entered.is_kept:
+        if kind is not None or self.entered.kept_by is None:
             self.owner.done = self.entered.saved_done
             self.owner.undone = self.entered.saved_undone
             self.entered.is_void = True

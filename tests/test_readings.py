@@ -319,6 +319,22 @@ class TrialTest(unittest.TestCase):
         raises(self, Over, None, lost.read, 'x')
         self.assertEqual(stays.read('x'), 0)
 
+    def test_opened_behind_an_inner_block(self):
+        """It is of the outer block, whether the inner one was kept or not."""
+        for inner_keeps in (False, True):
+            keeper = keeper_of(PAIR.format('once', 'kept'))
+            with keeper.trial():
+                with keeper.trial() as inner:
+                    if inner_keeps:
+                        inner.keep()
+                reading = keeper.reading('top')
+                self.assertEqual(reading.read('x'), 0)
+            raises(self, Over, None, reading.read, 'x')
+            keeper.reading('top').close()
+            with keeper.trial():
+                keeper.install(View.whole(keeper.house.sheet, keeper.editions[0]))
+            self.assertEqual(keeper.orders, ())
+
     def test_by_tried(self):
         keeper = keeper_of(PAIR.format('once', 'kept'))
         lost = keeper.tried(lambda told: told.reading('top'))

@@ -202,6 +202,38 @@ class TrialTest(unittest.TestCase):
                     raise ValueError('x')
         self.assertEqual(keeper.orders, (*ORDERS[:5], ('install', (0, 1))))
 
+    def test_kept_from_within_the_inner_one(self):
+        """The block of the trial that is told to keep is kept, and none else."""
+        keeper = self.keeper()
+        with keeper.trial() as outer:
+            give(keeper, ('install', (0, 1)))
+            with keeper.trial():
+                give(keeper, ('begin', 'left'))
+                outer.keep()
+            self.assertEqual(keeper.works, 1)
+        self.assertEqual(keeper.orders, (*ORDERS[:5], ('install', (0, 1))))
+
+    def test_keep_called_outside_of_the_inner_block(self):
+        keeper = self.keeper()
+        ahead = everything(keeper)
+        with keeper.trial():
+            inner = keeper.trial()
+            inner.keep()
+            with inner:
+                give(keeper, ('install', (0, 1)))
+            self.assertEqual(everything(keeper), ahead)
+            inner.keep()
+            give(keeper, ('begin', 'left'))
+        self.assertEqual(everything(keeper), ahead)
+
+    def test_keep_called_twice(self):
+        keeper = self.keeper()
+        with keeper.trial() as trial:
+            trial.keep()
+            give(keeper, ('install', (0, 1)))
+            trial.keep()
+        self.assertEqual(keeper.orders, (*ORDERS[:5], ('install', (0, 1))))
+
     def test_one_trial_twice(self):
         """keep counts for the block in which it was called."""
         keeper = self.keeper()
